@@ -1,0 +1,1 @@
+"""Beadframe: sums done by pushing beads, and read off."""
