@@ -56,6 +56,11 @@ def writes_number(text):
     return text == "0" or text[0] != "0"
 
 
+# figures are counted first: int() itself fails on very long texts
+def writes_upto(text, most):
+    return writes_number(text) and len(text) <= len(str(most)) and int(text) <= most
+
+
 # where a sign lacks, the part behind it is the text without signs, which writes no number
 def layout_parts(text):
     parts = []

@@ -50,3 +50,17 @@ def all_rod_standings(layout):
 
 def all_standings(frame):
     return [list(rods) for rods in itertools.product(*[all_rod_standings(layout) for layout in frame])]
+
+
+def standings_of(frame):
+    """Some standings of a frame, the clear and the fullest one among them."""
+    told = [[(0, 0) for layout in frame], [(upper, lower) for upper, worth, lower, base in frame]]
+    for step in range(1, 8):
+        told.append([
+            ((step + rod) % (upper + 1), (step * 5 + rod * 3) % (lower + 1))
+            for rod, (upper, worth, lower, base) in enumerate(frame)
+        ])
+    return told
+
+
+NO_TEXTS = [None, True, False, 0, 1, 10, 1.5, b"up 0 1", b"0.0", (), ("0.0",), [], ["up 0 1"], {}, set(), object(), str]
