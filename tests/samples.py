@@ -1,6 +1,7 @@
 """Layouts, frames and numbers that several tests use."""
 
 import itertools
+import math
 
 SOROBAN = (1, 5, 4, 10)
 SUANPAN = (2, 5, 5, 10)
@@ -64,3 +65,9 @@ def standings_of(frame):
 
 
 NO_TEXTS = [None, True, False, 0, 1, 10, 1.5, b"up 0 1", b"0.0", (), ("0.0",), [], ["up 0 1"], {}, set(), object(), str]
+
+
+def greatest_tidy(frame):
+    lower_rods = math.prod(layout[3] for layout in frame[:-1])
+    upper, worth, lower, base = frame[-1]
+    return lower_rods * (upper * worth + lower + 1) - 1

@@ -4,7 +4,9 @@ import unittest
 from beadframe.errors import TooGreat
 from beadframe.frames import borne_by, clear_of, digits_of, is_tidy, place_of, tidy_of
 from beadframe.layouts import full_worth
-from tests.samples import PLAIN_TEN, SOROBAN, SUANPAN, all_standings, sample_frame, sample_frames, sample_numbers
+from tests.samples import (
+    PLAIN_TEN, SOROBAN, SUANPAN, all_standings, greatest_tidy, sample_frame, sample_frames, sample_numbers,
+)
 
 SMALL_FRAMES = [
     [SUANPAN],
@@ -15,12 +17,6 @@ SMALL_FRAMES = [
     [(1, 2, 3, 2), (0, 1, 3, 3), (2, 1, 1, 2)],
     [(1, 1, 1, 2), (1, 1, 2, 3), (1, 2, 1, 4), (0, 1, 3, 2)],
 ]
-
-
-def greatest_tidy(frame):
-    lower_rods = math.prod(layout[3] for layout in frame[:-1])
-    upper, worth, lower, base = frame[-1]
-    return lower_rods * (upper * worth + lower + 1) - 1
 
 
 def tidy_by_the_words(frame, standing):
