@@ -160,9 +160,9 @@ def writes_sixty(text):
     return len(text) <= MOST_FIGURES and writes_number(text)
 
 
-# a frame row's words but for its layouts, of which there are just so many as a frame may have
+# a frame row but for what its layouts say: there are as many of them as a frame may have, and none without signs
 def writes_frame(words):
-    return 3 <= len(words) <= MOST_RODS + 2 and is_name(words[1])
+    return 3 <= len(words) <= MOST_RODS + 2 and is_name(words[1]) and "" not in words
 
 
 # the last rod is written first, a frame begins with rod 0
